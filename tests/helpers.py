@@ -1,0 +1,130 @@
+"""What the tests share: exact comparisons, refusals, and small webs that are written in short."""
+
+import random
+import unittest
+
+from keptjoined import errors
+from keptjoined.webs import Web
+
+FIELDS = {
+    "BadName": ["word"], "NoHouse": ["word"], "NoLine": ["word"], "SelfLine": ["word"],
+    "Taken": ["word"], "SamePart": ["word"], "NoVersion": ["word"], "NoStore": ["word"],
+    "BadNumber": ["number"], "BadPlace": ["number"], "NoRow": ["number"], "NoPaper": ["number"],
+    "TooMany": ["bound"], "BadDeed": ["place"], "BadText": ["row", "column", "fault"],
+    "NoSeat": ["key"], "SeatTaken": ["key"],
+    "NothingLeft": [], "OtherHouses": [], "NoLog": [], "BadAsk": [],
+}
+
+# Values that are no names, of every kind that a careless check might let through.
+NO_NAMES = [
+    "", "a" * 13, "1", "1a", "A", "aB", "Ab", "a b", " a", "a ", "a\n", "\na", "a\nb", "a-b", "a_b", "_a", "a.", "-",
+    "/a", "a/", "a:", "a@", "a[", "`a", "a`", "a{", "{a", "~",
+    None, True, False, 0, 1, -5, 10 ** 30, 1.5, b"a", [], ["a"], (), ("a",), ("a", "b"), {}, {"a": 1}, object(), {"a"},
+]
+
+
+def kinds(value):
+    """The kinds of a value and of all that it contains, so that 1, 1.0 and True are told apart."""
+    if isinstance(value, (list, tuple)):
+        return type(value).__name__, [kinds(item) for item in value]
+    if isinstance(value, dict):
+        return "dict", sorted((repr(key), kinds(item)) for key, item in value.items())
+    return type(value).__name__
+
+
+class KeptTest(unittest.TestCase):
+    def assertExactly(self, got, due):
+        self.assertEqual(got, due)
+        self.assertEqual(kinds(got), kinds(due))
+
+    def assertRefused(self, code, values, call, *given, **named):
+        """The call raises the error of this code, with these values as its attributes."""
+        with self.assertRaises(errors.KeptError) as caught:
+            call(*given, **named)
+        error = caught.exception
+        self.assertIs(type(error), getattr(errors, code))
+        self.assertEqual(error.code, code)
+        self.assertEqual(len(values), len(FIELDS[code]))
+        for field, value in zip(FIELDS[code], values):
+            held = getattr(error, field)
+            if isinstance(value, (str, int)) and not isinstance(value, bool):
+                self.assertExactly(held, value)
+            elif code in ("NoSeat", "SeatTaken"):
+                self.assertExactly(held, value)
+            else:
+                self.assertIs(held, value)
+
+
+def rows_of(text):
+    """The rows of "p a b, q b c" as tuples of words."""
+    return [tuple(row.split()) for row in text.split(",") if row.strip()]
+
+
+def web_of(houses, lines=""):
+    return Web(houses.split(), rows_of(lines))
+
+
+def many_houses(count):
+    return ["h%02d" % at for at in range(count)]
+
+
+def many_lines(count, houses):
+    """As many lines, l00 and so on, between neighbours in the list of houses, round and round."""
+    pairs = len(houses) - 1
+    return [("l%02d" % at, houses[at % pairs], houses[at % pairs + 1]) for at in range(count)]
+
+
+def full_web():
+    """A web at both bounds."""
+    houses = many_houses(32)
+    return Web(houses, many_lines(96, houses))
+
+
+def random_webs(count, most_houses, most_lines):
+    """Webs of all sizes up to these, with parallel lines, rings and houses alone."""
+    source = random.Random(20)
+    found = []
+    for _ in range(count):
+        houses = source.sample("abcdefghij", source.randint(0, most_houses))
+        lines = []
+        if len(houses) > 1:
+            names = source.sample(["l", "k", "m", "a", "b", "l1", "l0", "k9", "z", "y", "x", "w"],
+                                  source.randint(0, most_lines))
+            lines = [(name, *source.sample(houses, 2)) for name in names]
+        found.append(Web(houses, lines))
+    return found
+
+
+def all_ways(web, a, b, without=None):
+    """Every way from a to b, found by trying all of them."""
+    found = []
+
+    def walk(way, met):
+        if met[-1] == b:
+            found.append(way)
+            return
+        for line, low, high in web.lines:
+            for start, stop in [(low, high), (high, low)]:
+                if line != without and start == met[-1] and stop not in met:
+                    walk(way + [(line, start, stop)], met + [stop])
+
+    walk([], [a])
+    return found
+
+
+def joined_by_hand(houses, lines, a, b):
+    """Whether the lines join two houses, by letting the reached houses grow until nothing changes."""
+    reached = {a}
+    for _ in houses:
+        for _, low, high in lines:
+            if low in reached or high in reached:
+                reached |= {low, high}
+    return b in reached
+
+
+def parts_by_hand(houses, lines):
+    found = []
+    for house in sorted(houses):
+        if not any(house in part for part in found):
+            found.append([other for other in sorted(houses) if joined_by_hand(houses, lines, house, other)])
+    return found
