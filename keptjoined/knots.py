@@ -14,7 +14,11 @@ class Knot:
         # The knot above, and for a root None and the number of its row.
         self.above = None
         self.number = None
-        gather(self)
+        self.tall = 1
+        self.many = 1
+        self.total = self.load
+        self.low_tie = self.tie
+        self.low_spare = self.spare
 
     def seat(self):
         """The seat as it is now."""

@@ -18,8 +18,9 @@ def crossing_lines(web, side):
 
 def is_cut(web, a, b, side):
     """Judge whether a side shows that a is not joined to b."""
-    if a not in web.houses or b not in web.houses or not is_side(web, side):
+    if b not in web.houses or not is_side(web, side):
         return False
+    # A side has houses alone, so a need not be looked up.
     return a in side and b not in side and crossing_lines(web, side) == []
 
 

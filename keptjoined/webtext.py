@@ -48,20 +48,21 @@ class RowsRead:
 def read_rows(text):
     """What the rows before the first fault have made, and that fault or None."""
     made = RowsRead()
-    pieces = text.split("\n")
-    for at, piece in enumerate(pieces):
-        ended = at + 1 < len(pieces)
-        if piece == "" and not ended:
-            # Nothing stands behind the last line feed, or the text is empty.
-            return made, None
-        words = piece.split(" ")
+    rows = text.split("\n")
+    # What stands behind the last line feed is a row that is not ended, or nothing.
+    last = rows.pop()
+    for at, row in enumerate(rows):
+        words = row.split(" ")
         fault = row_fault(made, words)
-        if fault is None and not ended:
-            fault = (len(piece) + 1, "end")
         if fault is not None:
             return made, (at + 1, fault[0], fault[1])
         made.take_in(words)
-    return made, None
+    if last == "":
+        return made, None
+    fault = row_fault(made, last.split(" "))
+    if fault is None:
+        fault = (len(last) + 1, "end")
+    return made, (len(rows) + 1, fault[0], fault[1])
 
 
 def row_fault(made, words):
@@ -88,7 +89,7 @@ def word_fault(made, words, at):
         return "more"
     if not is_name(word):
         return "name"
-    if at == 1 and words[0] == "house":
+    if words[0] == "house":
         return new_name_fault(made.house_names, MOST_HOUSES, word)
     if at == 1:
         return new_name_fault(made.line_rows, MOST_LINES, word)

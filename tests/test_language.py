@@ -10,12 +10,13 @@ PACKAGE = pathlib.Path(__file__).resolve().parent.parent / "keptjoined"
 LIBRARY = {"heapq", "math", "itertools", "collections", "__future__"}
 BUILTINS = set("len range enumerate zip min max sum abs sorted reversed int str bool bytes list tuple dict set frozenset"
                " isinstance ord repr any all divmod pow getattr hasattr setattr iter next map property staticmethod"
-               " classmethod super object Exception ValueError TypeError KeyError IndexError LookupError"
-               " ZeroDivisionError ArithmeticError OverflowError RuntimeError NotImplementedError StopIteration"
-               " NotImplemented".split())
-BARRED = re.compile(r"\b(type|typing|typing_extensions|enum|Enum|IntEnum|StrEnum|Flag|IntFlag|Generic|Protocol|ABC"
-                    r"|ABCMeta|namedtuple|NamedTuple|TypedDict|TYPE_CHECKING|abstractmethod|register|mro|elements"
-                    r"|open|input|law|version_info|with_traceback|add_note)\b|dataclass|overload|contextmanager")
+               " classmethod super object float Exception ValueError TypeError KeyError IndexError LookupError"
+               " ZeroDivisionError ArithmeticError OverflowError RuntimeError NotImplementedError AttributeError"
+               " StopIteration NotImplemented".split())
+NO_NAMES_HERE = set("register mro elements open input law version_info with_traceback add_note".split())
+NO_WORDS = re.compile(r"\b(typing|typing_extensions|enum|Enum|IntEnum|StrEnum|Flag|IntFlag|Generic|Protocol|ABC|ABCMeta"
+                      r"|namedtuple|NamedTuple|TypedDict|TYPE_CHECKING|abstractmethod)\b"
+                      r"|dataclass|overload|contextmanager")
 
 
 def package_files():
@@ -72,24 +73,25 @@ class LanguageTest(unittest.TestCase):
 
     def test_words_and_builtins(self):
         for name, tree in self.trees():
-            bound = set()
-            used = set()
-            for node in ast.walk(without_docstrings(tree)):
+            self.assertIsNone(NO_WORDS.search(ast.unparse(without_docstrings(tree))), name)
+            bound, used, attributes = set(), set(), set()
+            for node in ast.walk(tree):
                 self.assertNotIsInstance(node, (ast.Global, ast.Div, ast.AsyncFunctionDef, ast.Await), name)
                 if isinstance(node, ast.Constant):
                     self.assertNotIsInstance(node.value, float, name)
                     self.assertNotIn("%", str(node.value), name)
-                if isinstance(node, ast.Name):
+                elif isinstance(node, ast.Name):
                     (used if isinstance(node.ctx, ast.Load) else bound).add(node.id)
-                elif isinstance(node, (ast.FunctionDef, ast.ClassDef)):
-                    bound.add(node.name)
+                elif isinstance(node, ast.Attribute):
+                    attributes.add(node.attr)
                 elif isinstance(node, ast.arg):
                     bound.add(node.arg)
-                elif isinstance(node, ast.alias):
+                elif isinstance(node, (ast.FunctionDef, ast.ClassDef, ast.alias, ast.ExceptHandler, ast.MatchAs,
+                                       ast.MatchStar)):
                     bound.add(node.name)
             self.assertEqual(bound & set(dir(builtins)), set(), name)
             self.assertEqual(used - bound - BUILTINS, set(), name)
-            self.assertIsNone(BARRED.search(ast.unparse(tree)), name)
+            self.assertEqual((bound | attributes) & NO_NAMES_HERE, set(), name)
 
 
 if __name__ == "__main__":

@@ -202,13 +202,6 @@ class RefusedTest(KeptTest):
                 self.assertRefused("NoLine", ["nn"], call, web, a, b, without="nn")
                 self.assertRefused("NoLine", ["a"], call, web, a, b, without="a")
 
-    def test_without_is_passed_by_keyword(self):
-        web = web_of("a b", "p a b")
-        for call, given in [(find_part, ("a", "p")), (distances, ("a", "p")), (search_joined, ("a", "b", "p")),
-                            (shortest_way, ("a", "b", "p"))]:
-            with self.assertRaises(TypeError):
-                call(web, *given)
-
 
 class IsWayTest(KeptTest):
     def setUp(self):

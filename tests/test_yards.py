@@ -320,12 +320,6 @@ class MarksTest(YardTest):
         yard.mark(("a",), tie=None, spare=None)
         self.assertExactly((yard.least_tie(row), yard.least_spare(row), yard.weight(row)), (None, None, 6))
 
-    def test_marks_are_passed_by_keyword(self):
-        yard = Yard()
-        yard.make(seats("a"))
-        with self.assertRaises(TypeError):
-            yard.mark(("a",), "t", "s")
-
     def test_marks_are_compared_as_names(self):
         yard = Yard()
         row = yard.make([seat("a", 0, "b", "l10"), seat("b", 0, "aa", "l2"), seat("c", 0, "a9", "l1")])
