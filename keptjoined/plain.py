@@ -91,13 +91,14 @@ def steps_of(web, without):
 def counts_from(steps, house):
     """The fewest number of steps from a house to each house of its part."""
     counts = {house: 0}
-    nearest = [house]
-    while nearest != []:
-        further = []
-        for start in nearest:
-            for _, stop in steps[start]:
-                if stop not in counts:
-                    counts[stop] = counts[start] + 1
-                    further.append(stop)
-        nearest = further
+    met = [house]
+    place = 0
+    # Houses are met in the order of their counts, so each one is met first from a house that is nearest.
+    while place < len(met):
+        start = met[place]
+        place += 1
+        for _, stop in steps[start]:
+            if stop not in counts:
+                counts[stop] = counts[start] + 1
+                met.append(stop)
     return counts

@@ -17,6 +17,8 @@ NO_NAMES_HERE = set("register mro elements open input law version_info with_trac
 NO_WORDS = re.compile(r"\b(typing|typing_extensions|enum|Enum|IntEnum|StrEnum|Flag|IntFlag|Generic|Protocol|ABC|ABCMeta"
                       r"|namedtuple|NamedTuple|TypedDict|TYPE_CHECKING|abstractmethod)\b"
                       r"|dataclass|overload|contextmanager")
+VIEWS = {"enumerate", "zip", "reversed", "items", "keys", "values"}
+MODIFYING = {"append", "clear", "extend", "insert", "pop", "remove", "reverse", "setdefault", "update", "sort"}
 
 
 def package_files():
@@ -28,6 +30,59 @@ def without_docstrings(tree):
         if isinstance(node, (ast.Module, ast.ClassDef, ast.FunctionDef)) and ast.get_docstring(node) is not None:
             node.body = node.body[1:] or [ast.Pass()]
     return tree
+
+
+def choices(node):
+    """What an expression may give, each as text: both sides of a choice, what a view or an enumerate goes over."""
+    if isinstance(node, ast.IfExp):
+        return choices(node.body) | choices(node.orelse)
+    if isinstance(node, ast.BoolOp):
+        return set().union(*map(choices, node.values))
+    if isinstance(node, ast.Call) and isinstance(node.func, ast.Name) and node.func.id in VIEWS:
+        return set().union(*map(choices, node.args))
+    if isinstance(node, ast.Call) and isinstance(node.func, ast.Attribute) and node.func.attr in VIEWS:
+        return choices(node.func.value)
+    return {ast.unparse(node)} if isinstance(node, (ast.Name, ast.Attribute, ast.Subscript)) else set()
+
+
+def same_things(function):
+    """For each text that is assigned from another one in a function all that may stand for the same list."""
+    groups = []
+    for node in ast.walk(function):
+        if isinstance(node, ast.Assign):
+            groups.append(choices(node.value).union(*map(choices, node.targets)))
+            for target in node.targets:
+                if isinstance(target, ast.Tuple) and isinstance(node.value, ast.Tuple):
+                    groups += [choices(left) | choices(right) for left, right in zip(target.elts, node.value.elts)]
+    return groups
+
+
+def widened(texts, groups):
+    for _ in groups:
+        for group in groups:
+            if texts & group:
+                texts = texts | group
+    return texts
+
+
+def changed_in(body):
+    """The texts that the rows of a loop change: by a method, an item, a slice, del, or += and the like."""
+    found = set()
+    for node in [inner for row in body for inner in ast.walk(row)]:
+        if isinstance(node, ast.Call) and isinstance(node.func, ast.Attribute) and node.func.attr in MODIFYING:
+            found |= choices(node.func.value)
+        elif isinstance(node, ast.Subscript) and not isinstance(node.ctx, ast.Load):
+            found |= choices(node.value)
+        elif isinstance(node, ast.AugAssign):
+            found |= choices(node.target)
+    return found
+
+
+def faults_of_loops(function):
+    """The rows of the loops of a function that change what they go over, also under another name (L23)."""
+    groups = same_things(function)
+    return [node.lineno for node in ast.walk(function) if isinstance(node, ast.For)
+            and widened(choices(node.iter), groups) & changed_in(node.body)]
 
 
 class LanguageTest(unittest.TestCase):
@@ -70,6 +125,20 @@ class LanguageTest(unittest.TestCase):
             self.assertTrue(ready, f"a circle among {sorted(wants)}")
             for module in ready:
                 del wants[module]
+
+    def test_loops_do_not_change_what_they_go_over(self):
+        for name, tree in self.trees():
+            for node in ast.walk(tree):
+                if isinstance(node, ast.FunctionDef):
+                    self.assertEqual(faults_of_loops(node), [], f"{name}: {node.name}")
+
+    def test_such_loops_are_found(self):
+        for rows in ["for x in xs:\n  xs.append(x)", "for x in ys:\n  xs.append(x)\nys = xs", "for k in d:\n  del d[k]",
+                     "for at, x in enumerate(xs):\n  xs[at] = x", "for k in a.d.items():\n  a.d.pop(k)",
+                     "for x in xs if c else ys:\n  ys += [x]", "ys, zs = xs, 0\nfor x in xs:\n  ys.clear()"]:
+            self.assertEqual(len(faults_of_loops(ast.parse(rows))), 1, rows)
+        for rows in ["for x in list(xs):\n  xs.append(x)", "for x in xs:\n  ys.append(x)", "for k in d:\n  e[k] = d[k]"]:
+            self.assertEqual(faults_of_loops(ast.parse(rows)), [], rows)
 
     def test_words_and_builtins(self):
         for name, tree in self.trees():
