@@ -1,7 +1,7 @@
-"""Checks of houses and lines that several modules share (steps 1 to 3 of the order of errors)."""
+"""Checks of houses and lines that several modules share, in the order of errors."""
 
-from keptjoined.errors import NoHouse, SelfLine
-from keptjoined.names import check_name
+from keptjoined.errors import NoHouse, NoLine, SelfLine, Taken, TooMany
+from keptjoined.names import MOST_LINES, check_name
 
 
 def check_names(words):
@@ -17,9 +17,31 @@ def check_stand(houses, words):
             raise NoHouse(word)
 
 
+def check_known(houses, words):
+    """The form of each word, then that each is one of the houses."""
+    check_names(words)
+    check_stand(houses, words)
+
+
 def check_line(houses, line, a, b):
     """The form of a line and of its ends, then the houses, then that the ends differ."""
     check_names([line, a, b])
     check_stand(houses, [a, b])
     if a == b:
         raise SelfLine(line)
+
+
+def check_new_line(houses, standing, line, a, b):
+    """All five steps for a line that is to be added to those that stand."""
+    check_line(houses, line, a, b)
+    if line in standing:
+        raise Taken(line)
+    if len(standing) >= MOST_LINES:
+        raise TooMany(MOST_LINES)
+
+
+def check_line_stands(standing, line):
+    """BadName, then NoLine for a line that is none of those that stand."""
+    check_name(line)
+    if line not in standing:
+        raise NoLine(line)

@@ -1,6 +1,6 @@
 """Cuts, forests and bridges of a web, found by plain searches."""
 
-from keptjoined.checks import check_names, check_stand
+from keptjoined.checks import check_known
 from keptjoined.groups import Groups
 from keptjoined.plain import find_part, search_joined
 
@@ -10,8 +10,7 @@ def crossing_lines(web, side):
     houses = web.houses
     inside = {}
     for house in side:
-        check_names([house])
-        check_stand(houses, [house])
+        check_known(houses, [house])
         inside[house] = True
     return [line for line, low, high in web.lines if (low in inside) != (high in inside)]
 

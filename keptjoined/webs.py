@@ -1,8 +1,7 @@
 """Webs: unchangeable sets of houses and lines."""
 
-from keptjoined.checks import check_line, check_names, check_stand
-from keptjoined.errors import NoLine, Taken, TooMany
-from keptjoined.names import MOST_LINES, check_houses, check_name, ordered
+from keptjoined.checks import check_known, check_line_stands, check_new_line
+from keptjoined.names import check_houses, ordered
 
 
 class Web:
@@ -12,23 +11,9 @@ class Web:
         self._houses = check_houses(houses)
         self._ends = {}
         for line, a, b in lines:
-            self._check_new(line, a, b)
+            check_new_line(self._houses, self._ends, line, a, b)
             self._ends[line] = ordered(a, b)
         self._lines = sorted([(line, low, high) for line, (low, high) in self._ends.items()])
-
-    def _check_new(self, line, a, b):
-        """All five steps for a line that is to be added."""
-        check_line(self._houses, line, a, b)
-        if line in self._ends:
-            raise Taken(line)
-        if len(self._ends) >= MOST_LINES:
-            raise TooMany(MOST_LINES)
-
-    def _check_stands(self, line):
-        """BadName, then NoLine for a line that does not stand."""
-        check_name(line)
-        if line not in self._ends:
-            raise NoLine(line)
 
     @property
     def houses(self):
@@ -42,13 +27,12 @@ class Web:
 
     def ends(self, line):
         """The two ends of a line, ascending."""
-        self._check_stands(line)
+        check_line_stands(self._ends, line)
         return self._ends[line]
 
     def lines_at(self, house):
         """The names of the lines that end at a house, ascending."""
-        check_names([house])
-        check_stand(self._houses, [house])
+        check_known(self._houses, [house])
         return [line for line, low, high in self._lines if house == low or house == high]
 
     def with_house(self, house):
@@ -62,7 +46,7 @@ class Web:
 
     def without_line(self, line):
         """A new web that lacks this line."""
-        self._check_stands(line)
+        check_line_stands(self._ends, line)
         return Web(self._houses, [row for row in self._lines if row[0] != line])
 
     def __eq__(self, other):

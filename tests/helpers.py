@@ -128,3 +128,11 @@ def parts_by_hand(houses, lines):
         if not any(house in part for part in found):
             found.append([other for other in sorted(houses) if joined_by_hand(houses, lines, house, other)])
     return found
+
+
+def yard_state(yard):
+    """All that can be seen of a yard without changing it."""
+    rows = [(row, yard.listed(row), yard.shape(row), yard.size(row), yard.weight(row), yard.height(row),
+             yard.least_tie(row), yard.least_spare(row)) for row in yard.row_numbers()]
+    held = [(yard.row_of(one[0]), yard.place_of(one[0]), one[0] in yard) for row in rows for one in row[1]]
+    return rows, held, yard.cuts, yard.splices, len(yard)

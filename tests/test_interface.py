@@ -9,12 +9,24 @@ FUNCTIONS = {
     "plain": "find_parts find_part search_joined shortest_way distances is_way",
     "plaincuts": "crossing_lines is_cut spanning_lines is_forest is_spanning plain_bridges bridge_sides",
     "shapes": "is_balanced shape_keys shape_height least_seats height_bound",
+    "plaintours": "is_tour turned linked parted tour_houses tour_lines",
+    "tours": "house_seat arc_seat plant turn tie_up untie start_house",
+    "tables": "first_break is_table rise_bound step_bound is_within",
+    "certificates": "answer is_answer parts_certificate is_parts_certificate shortest_certificate is_shortest_certificate",
+    "bridges": "find_bridges store_bridges blocks shrunk bridge_certificate is_bridge_certificate two_ways is_two_ways"
+               " least_joins is_joins",
 }
 
 CLASSES = {
     ("webs", "Web"): "houses lines ends lines_at with_house with_line without_line __eq__ __len__ __contains__ __iter__",
     ("yards", "Yard"): "make scrap row_numbers listed size weight height least_tie least_spare shape at stretch row_of"
                        " place_of put drop mark weigh cut splice cuts splices __len__ __contains__",
+    ("forest", "Forest"): "houses lines steps __len__ __contains__ link cut mark_tie mark_spare same piece_of size_of"
+                          " pieces least_tie least_spare way tour_of heights",
+    ("plainlevels", "PlainLevels"): "houses lines top put take level_of table piece_of pieces twin",
+    ("levels", "Levels"): "houses lines top put take level_of table piece_of pieces web way tours heights counts",
+    ("store", "Store"): "houses lines top __len__ __contains__ put take web joined way part_of size_of part_name parts"
+                        " part_count ties spares trace level_of table piece_of pieces tours heights counts",
 }
 
 

@@ -7,6 +7,7 @@ from keptjoined.errors import KeptError
 from keptjoined.shapes import height_bound, is_balanced, shape_height, shape_keys
 from keptjoined.yards import Yard
 from tests.helpers import KeptTest
+from tests.helpers import yard_state as state
 
 # No row numbers of a yard with the rows 0 and 1, and no places; some equal 0 or 1, but are no integers.
 NO_INTEGERS = [True, False, 1.0, 0.0, None, "0", "1", "", [], [0], (), (1,), {}, object()]
@@ -35,14 +36,6 @@ def summed(chosen):
 
 def shapes(yard):
     return {row: yard.shape(row) for row in yard.row_numbers()}
-
-
-def state(yard):
-    """All that can be seen of a yard without changing it."""
-    rows = [(row, yard.listed(row), yard.shape(row), yard.size(row), yard.weight(row), yard.height(row),
-             yard.least_tie(row), yard.least_spare(row)) for row in yard.row_numbers()]
-    held = [(yard.row_of(one[0]), yard.place_of(one[0]), one[0] in yard) for row in rows for one in row[1]]
-    return rows, held, yard.cuts, yard.splices, len(yard)
 
 
 class PlainYard:
