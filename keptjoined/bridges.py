@@ -1,6 +1,6 @@
 """Bridges and blocks of a web, and what shows that two houses stay joined without any one line."""
 
-from keptjoined.certificates import all_names, all_steps
+from keptjoined.certificates import all_steps
 from keptjoined.groups import Groups
 from keptjoined.plain import find_part, find_parts, is_way, search_joined, shortest_way, steps_of
 from keptjoined.plaincuts import crossing_lines, is_cut, is_side
@@ -89,7 +89,7 @@ def is_bridge_certificate(web, line, certificate):
     if word == "ring":
         low, high = web.ends(line)
         return all_steps(items) and is_way(web, low, high, items) and all([step[0] != line for step in items])
-    return word == "cut" and all_names(items) and is_crossed_once(web, items, line)
+    return word == "cut" and is_crossed_once(web, items, line)
 
 
 def is_crossed_once(web, side, line):
@@ -181,7 +181,7 @@ def is_joins(web, joins):
         return False
     if len(joins) != max(0, len(find_parts(web)) - 1):
         return False
-    pairs = [(low, high) for _, low, high in web.lines] + joins
+    pairs = [(low, high) for _, low, high in web.lines] + list(joins)
     groups = Groups(houses)
     for a, b in pairs:
         groups.unite(a, b)

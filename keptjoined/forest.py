@@ -1,7 +1,7 @@
 """Forests: houses and lines without a ring, with a tour of each piece in one yard."""
 
 from keptjoined.checks import check_known, check_line, check_line_stands, check_names, check_stand
-from keptjoined.errors import SamePart, Taken
+from keptjoined.errors import Taken
 from keptjoined.names import check_houses, ordered
 from keptjoined.plaintours import arc_key, house_key, tour_houses, tour_way
 from keptjoined.tours import plant, tie_up, untie
@@ -59,9 +59,8 @@ class Forest:
         check_line(self._houses, line, a, b)
         if line in self._ends:
             raise Taken(line)
-        if self.same(a, b):
-            raise SamePart(line)
         low, high = ordered(a, b)
+        # This raises SamePart before it turns anything.
         tie_up(self._yard, line, low, high)
         self._ends[line] = (low, high)
 

@@ -9,7 +9,7 @@ class LevelRows:
 
     def __init__(self, houses):
         self._houses = check_houses(houses)
-        self._rows = {}
+        self._standing = {}
 
     @property
     def houses(self):
@@ -19,7 +19,7 @@ class LevelRows:
     @property
     def lines(self):
         """The lines as tuples (name, low, high), ascending."""
-        return sorted([(line, low, high) for line, (low, high, _, _) in self._rows.items()])
+        return sorted([(line, low, high) for line, (low, high, _, _) in self._standing.items()])
 
     @property
     def top(self):
@@ -32,42 +32,42 @@ class LevelRows:
 
     def check_new(self, line, a, b):
         """All five steps for a line that is to be put."""
-        check_new_line(self._houses, self._rows, line, a, b)
+        check_new_line(self._houses, self._standing, line, a, b)
 
     def begin(self, line, a, b, tie):
         """Let a line stand, at level 0."""
         low, high = ordered(a, b)
-        self._rows[line] = (low, high, 0, tie)
+        self._standing[line] = (low, high, 0, tie)
 
     def end(self, line):
         """Let a line stand no more."""
-        del self._rows[line]
+        del self._standing[line]
 
     def row_of(self, line):
         """The low end, the high end, the level of a line that stands, and whether it is a tie."""
-        check_line_stands(self._rows, line)
-        return self._rows[line]
+        check_line_stands(self._standing, line)
+        return self._standing[line]
 
     def rise(self, line):
         """Let a line rise by one level; returns what the trace gets."""
-        low, high, level, tie = self._rows[line]
-        self._rows[line] = (low, high, level + 1, tie)
+        low, high, level, tie = self._standing[line]
+        self._standing[line] = (low, high, level + 1, tie)
         return "raise", line, level + 1
 
     def become_tie(self, line):
         """Let a spare become a tie of the same level; returns what the trace gets."""
-        low, high, level, _ = self._rows[line]
-        self._rows[line] = (low, high, level, True)
+        low, high, level, _ = self._standing[line]
+        self._standing[line] = (low, high, level, True)
         return "found", line, level
 
     def table(self):
         """The lines with their ends and levels and whether they are ties, ascending."""
-        return sorted([(line, low, high, level, tie) for line, (low, high, level, tie) in self._rows.items()])
+        return sorted([(line, low, high, level, tie) for line, (low, high, level, tie) in self._standing.items()])
 
     def twin(self):
         """Another one in the same state."""
         made = LevelRows(self._houses)
-        made._rows = dict(self._rows)
+        made._standing = dict(self._standing)
         return made
 
 

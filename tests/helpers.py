@@ -1,5 +1,6 @@
 """What the tests share: exact comparisons, refusals, and small webs that are written in short."""
 
+import copy
 import random
 import unittest
 
@@ -21,6 +22,29 @@ NO_NAMES = [
     "/a", "a/", "a:", "a@", "a[", "`a", "a`", "a{", "{a", "~",
     None, True, False, 0, 1, -5, 10 ** 30, 1.5, b"a", [], ["a"], (), ("a",), ("a", "b"), {}, {"a": 1}, object(), {"a"},
 ]
+
+
+class Alike:
+    """A value that claims to be equal to every other one, and to stand where the string does in a dict."""
+
+    def __init__(self, word):
+        self.word = word
+
+    def __eq__(self, other):
+        return True
+
+    def __hash__(self):
+        return hash(self.word)
+
+
+class Unlike:
+    """A value that can be neither compared nor looked up."""
+
+    def __eq__(self, other):
+        raise ArithmeticError
+
+    def __hash__(self):
+        raise ArithmeticError
 
 
 def kinds(value):
@@ -53,6 +77,23 @@ class KeptTest(unittest.TestCase):
                 self.assertExactly(held, value)
             else:
                 self.assertIs(held, value)
+
+    def check_constructor(self, kind):
+        """Points 4 to 7 for a constructor of houses; an object tells them by its property."""
+        houses = ["c", "a", "b"]
+        made = kind(houses)
+        houses.append("d")
+        self.assertExactly((made.houses, houses), (["a", "b", "c"], ["c", "a", "b", "d"]))
+        self.assertExactly(kind(("b", "a")).houses, ["a", "b"])
+        for word in NO_NAMES:
+            self.assertRefused("BadName", [word], kind, [word])
+            self.assertRefused("BadName", [word], kind, ["a", word, "a"])
+        self.assertRefused("Taken", ["a"], kind, ["b", "a", "a", "A"])
+        houses = many_houses(32)
+        self.assertExactly(kind(houses).houses, houses)
+        self.assertRefused("TooMany", [32], kind, houses + ["x", "X"])
+        self.assertRefused("Taken", ["h00"], kind, houses + ["h00"])
+        self.assertRefused("BadName", [0], kind, houses + [0])
 
 
 def rows_of(text):
@@ -135,4 +176,4 @@ def yard_state(yard):
     rows = [(row, yard.listed(row), yard.shape(row), yard.size(row), yard.weight(row), yard.height(row),
              yard.least_tie(row), yard.least_spare(row)) for row in yard.row_numbers()]
     held = [(yard.row_of(one[0]), yard.place_of(one[0]), one[0] in yard) for row in rows for one in row[1]]
-    return rows, held, yard.cuts, yard.splices, len(yard)
+    return copy.deepcopy((rows, held, yard.cuts, yard.splices, len(yard)))

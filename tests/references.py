@@ -7,6 +7,31 @@ from keptjoined.plaintours import linked, parted, tour_houses, tour_lines
 # What a level must not be where the greatest level is 2; some equal 0 or 1, but are no integers.
 NO_LEVELS = [-1, 3, 4, 10 ** 20, -10 ** 20, True, False, 1.0, 0.0, None, "0", "", [], [0], (), (1,), {}, object()]
 
+# The lines that the small levels and the small store put before they take q; p and s then have risen, t is a tie.
+SMALL_LINES = "p a b, q b c, r c d, s a b, t a d, u c d"
+
+# Calls that these refuse then, with the houses a to e, each with its error: (method, arguments, code, value).
+REFUSED = [
+    ("put", ("N", "A", "B"), "BadName", "N"), ("put", ("n", "A", "B"), "BadName", "A"),
+    ("put", ("n", "z", "B"), "BadName", "B"), ("put", ("p", "a", ""), "BadName", ""),
+    ("put", ("n", "z", "y"), "NoHouse", "z"), ("put", ("n", "a", "z"), "NoHouse", "z"),
+    ("put", ("p", "z", "z"), "NoHouse", "z"), ("put", ("n", "p", "a"), "NoHouse", "p"),
+    ("put", ("n", "a", "a"), "SelfLine", "n"), ("put", ("p", "a", "a"), "SelfLine", "p"),
+    ("put", ("p", "a", "b"), "Taken", "p"), ("put", ("s", "c", "d"), "Taken", "s"),
+    ("put", ("p", "e", "a"), "Taken", "p"), ("take", ("P",), "BadName", "P"), ("take", ("n",), "NoLine", "n"),
+    ("take", ("a",), "NoLine", "a"), ("level_of", ("P",), "BadName", "P"), ("level_of", ("n",), "NoLine", "n"),
+    ("level_of", ("a",), "NoLine", "a"), ("piece_of", (-1, "A"), "BadNumber", -1),
+    ("piece_of", (3, "z"), "BadNumber", 3), ("piece_of", (0, "A"), "BadName", "A"),
+    ("piece_of", (2, "A"), "BadName", "A"), ("piece_of", (2, "z"), "NoHouse", "z"),
+    ("piece_of", (0, "p"), "NoHouse", "p"), ("piece_of", ("a", 0), "BadNumber", "a"), ("pieces", (3,), "BadNumber", 3),
+    ("pieces", (-1,), "BadNumber", -1),
+]
+REFUSED_WITH_FORESTS = [
+    ("way", ("A", "B"), "BadName", "A"), ("way", ("z", "B"), "BadName", "B"), ("way", ("y", "z"), "NoHouse", "y"),
+    ("way", ("a", "z"), "NoHouse", "z"), ("way", ("z", "z"), "NoHouse", "z"), ("tours", (3,), "BadNumber", 3),
+    ("tours", (-1,), "BadNumber", -1), ("heights", (3,), "BadNumber", 3), ("heights", (-1,), "BadNumber", -1),
+]
+
 
 def random_deeds(seed, houses, names, count):
     """Deeds that can be done one after another; lines become more at first, and fewer towards the end."""

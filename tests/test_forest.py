@@ -1,13 +1,17 @@
 """Points 35 to 38, and 4 to 8 as far as they speak of forests."""
 
+import copy
 import random
 import unittest
 
 from keptjoined.errors import KeptError
 from keptjoined.forest import Forest
 from keptjoined.shapes import height_bound
-from tests.helpers import NO_NAMES, KeptTest, many_houses, parts_by_hand, rows_of, web_of, all_ways
+from tests.helpers import NO_NAMES, Alike, KeptTest, Unlike, many_houses, parts_by_hand, rows_of, web_of, all_ways
 from tests.references import HandTours, least_height
+
+# Names of lines in the long runs; some are names of houses too.
+NAMES = ["a", "p", "p1", "q", "r", "house", "arc", "z"]
 
 # Calls that are refused in the small forest, each with its error: (method, arguments, code, word).
 REFUSED = [
@@ -16,22 +20,23 @@ REFUSED = [
     ("link", ("n", "z", "y"), "NoHouse", "z"), ("link", ("n", "a", "z"), "NoHouse", "z"),
     ("link", ("p", "z", "z"), "NoHouse", "z"), ("link", ("n", "p", "a"), "NoHouse", "p"),
     ("link", ("n", "a", "a"), "SelfLine", "n"), ("link", ("p", "f", "f"), "SelfLine", "p"),
-    ("link", ("p", "a", "b"), "Taken", "p"), ("link", ("p", "b", "a"), "Taken", "p"), ("link", ("p", "a", "c"), "Taken", "p"),
-    ("link", ("p", "d", "f"), "Taken", "p"), ("link", ("r", "c", "b"), "Taken", "r"),
-    ("link", ("n", "a", "b"), "SamePart", "n"), ("link", ("n", "c", "b"), "SamePart", "n"), ("link", ("a", "e", "d"), "SamePart", "a"),
+    ("link", ("p", "a", "b"), "Taken", "p"), ("link", ("p", "b", "a"), "Taken", "p"),
+    ("link", ("p", "a", "c"), "Taken", "p"), ("link", ("p", "d", "f"), "Taken", "p"),
+    ("link", ("r", "c", "b"), "Taken", "r"), ("link", ("n", "a", "b"), "SamePart", "n"),
+    ("link", ("n", "c", "b"), "SamePart", "n"), ("link", ("a", "e", "d"), "SamePart", "a"),
     ("cut", ("P",), "BadName", "P"), ("cut", ("n",), "NoLine", "n"), ("cut", ("a",), "NoLine", "a"),
-    ("mark_tie", ("P", True), "BadName", "P"), ("mark_tie", ("n", True), "NoLine", "n"), ("mark_tie", ("a", False), "NoLine", "a"),
-    ("mark_spare", ("A", "N"), "BadName", "A"), ("mark_spare", ("z", "N"), "BadName", "N"), ("mark_spare", ("a", "N"), "BadName", "N"),
-    ("mark_spare", ("A", None), "BadName", "A"), ("mark_spare", ("z", None), "NoHouse", "z"), ("mark_spare", ("p", "p"), "NoHouse", "p"),
-    ("mark_spare", ("a", ""), "BadName", ""),
+    ("mark_tie", ("P", True), "BadName", "P"), ("mark_tie", ("n", True), "NoLine", "n"),
+    ("mark_tie", ("a", False), "NoLine", "a"), ("mark_spare", ("A", "N"), "BadName", "A"),
+    ("mark_spare", ("z", "N"), "BadName", "N"), ("mark_spare", ("a", "N"), "BadName", "N"),
+    ("mark_spare", ("A", None), "BadName", "A"), ("mark_spare", ("z", None), "NoHouse", "z"),
+    ("mark_spare", ("p", "p"), "NoHouse", "p"), ("mark_spare", ("a", ""), "BadName", ""),
     ("same", ("A", "B"), "BadName", "A"), ("same", ("z", "B"), "BadName", "B"), ("same", ("y", "z"), "NoHouse", "y"),
-    ("same", ("a", "z"), "NoHouse", "z"), ("same", ("z", "z"), "NoHouse", "z"),
-    ("way", ("A", "B"), "BadName", "A"), ("way", ("z", "B"), "BadName", "B"), ("way", ("y", "z"), "NoHouse", "y"),
-    ("way", ("a", "z"), "NoHouse", "z"), ("way", ("z", "z"), "NoHouse", "z"),
-    ("piece_of", ("A",), "BadName", "A"), ("piece_of", ("p",), "NoHouse", "p"), ("size_of", ("A",), "BadName", "A"),
-    ("size_of", ("p",), "NoHouse", "p"), ("least_tie", ("A",), "BadName", "A"), ("least_tie", ("p",), "NoHouse", "p"),
-    ("least_spare", ("A",), "BadName", "A"), ("least_spare", ("p",), "NoHouse", "p"), ("tour_of", ("A",), "BadName", "A"),
-    ("tour_of", ("p",), "NoHouse", "p"),
+    ("same", ("a", "z"), "NoHouse", "z"), ("same", ("z", "z"), "NoHouse", "z"), ("way", ("A", "B"), "BadName", "A"),
+    ("way", ("z", "B"), "BadName", "B"), ("way", ("y", "z"), "NoHouse", "y"), ("way", ("a", "z"), "NoHouse", "z"),
+    ("way", ("z", "z"), "NoHouse", "z"), ("piece_of", ("A",), "BadName", "A"), ("piece_of", ("p",), "NoHouse", "p"),
+    ("size_of", ("A",), "BadName", "A"), ("size_of", ("p",), "NoHouse", "p"), ("least_tie", ("A",), "BadName", "A"),
+    ("least_tie", ("p",), "NoHouse", "p"), ("least_spare", ("A",), "BadName", "A"),
+    ("least_spare", ("p",), "NoHouse", "p"), ("tour_of", ("A",), "BadName", "A"), ("tour_of", ("p",), "NoHouse", "p"),
 ]
 
 
@@ -53,9 +58,9 @@ def small_forest():
 
 def state(forest):
     """All that can be seen of a forest."""
-    return [forest.houses, forest.lines, forest.steps, len(forest), forest.pieces(), forest.heights()] + [
+    return copy.deepcopy([forest.houses, forest.lines, forest.steps, len(forest), forest.pieces(), forest.heights()] + [
         (forest.piece_of(a), forest.size_of(a), forest.tour_of(a), forest.least_tie(a), forest.least_spare(a),
-         [(forest.same(a, b), forest.way(a, b)) for b in forest.houses]) for a in forest.houses]
+         [(forest.same(a, b), forest.way(a, b)) for b in forest.houses]) for a in forest.houses])
 
 
 class ForestTest(KeptTest):
@@ -65,6 +70,8 @@ class ForestTest(KeptTest):
         self.assertExactly(forest.houses, houses)
         self.assertExactly(forest.lines, sorted(lines))
         self.assertExactly(len(forest), len(lines))
+        for name in houses + NAMES:
+            self.assertIs(name in forest, name in [line for line, _, _ in lines])
         self.assertExactly(forest.steps, tours.cuts + tours.splices)
         pieces = parts_by_hand(houses, lines)
         self.assertExactly(forest.pieces(), pieces)
@@ -105,23 +112,8 @@ class NewTest(ForestTest):
         for passed in [["c", "a", "b"], ("b", "c", "a")]:
             self.compare(Forest(passed), HandTours("abc"), [], [], {})
 
-    def test_errors(self):
-        for word in NO_NAMES:
-            self.assertRefused("BadName", [word], Forest, [word])
-            self.assertRefused("BadName", [word], Forest, ["a", word, "a"])
-        self.assertRefused("Taken", ["a"], Forest, ["b", "a", "a", "A"])
-        houses = many_houses(32)
-        self.assertExactly(Forest(houses).houses, houses)
-        self.assertRefused("TooMany", [32], Forest, houses + ["x", "X"])
-        self.assertRefused("Taken", ["h00"], Forest, houses + ["h00"])
-        self.assertRefused("BadName", [0], Forest, houses + [0])
-
-    def test_the_list_that_is_passed(self):
-        houses = ["b", "a"]
-        forest = Forest(houses)
-        houses.append("c")
-        forest.link("l", "a", "b")
-        self.assertExactly((forest.houses, houses), (["a", "b"], ["b", "a", "c"]))
+    def test_the_constructor(self):
+        self.check_constructor(Forest)
 
 
 class LinkTest(ForestTest):
@@ -173,7 +165,7 @@ class LinkTest(ForestTest):
         forest = small_forest()
         for line in "pqr":
             self.assertIs(line in forest, True)
-        for word in NO_NAMES + ["a", "n", "p q", ("p",), ["p"], ("p", "a", "b")]:
+        for word in NO_NAMES + ["a", "n", "p q", ("p",), ["p"], ("p", "a", "b"), Alike("p"), Unlike()]:
             self.assertIs(word in forest, False)
         forest.cut("q")
         self.assertIs("q" in forest, False)
@@ -293,13 +285,12 @@ class RunTest(ForestTest):
         for seed in range(10):
             source = random.Random(seed)
             houses = source.sample(["a", "b", "c1", "c", "d", "h9", "house", "arc"], source.randint(2, 8))
-            names = ["a", "p", "p1", "q", "r", "house", "arc", "z"]
             forest, tours = Forest(houses), HandTours(sorted(houses))
             lines, ties, spares = [], [], {}
             for _ in range(80):
                 kind = source.randrange(8)
                 if kind < 4:
-                    line, a, b = source.choice(names), *source.sample(houses, 2)
+                    line, a, b = source.choice(NAMES), *source.sample(houses, 2)
                     taken = line in [row[0] for row in lines]
                     if taken or forest.same(a, b):
                         self.assertRefused("Taken" if taken else "SamePart", [line], forest.link, line, a, b)
@@ -318,7 +309,7 @@ class RunTest(ForestTest):
                     self.assertIs(forest.mark_tie(line, marked), None)
                     ties = [other for other in ties if other != line] + [line] * marked
                 elif kind > 5:
-                    house, line = source.choice(houses), source.choice(names + [None])
+                    house, line = source.choice(houses), source.choice(NAMES + [None])
                     self.assertIs(forest.mark_spare(house, line), None)
                     spares.pop(house, None)
                     if line is not None:

@@ -140,6 +140,23 @@ class LanguageTest(unittest.TestCase):
         for rows in ["for x in list(xs):\n  xs.append(x)", "for x in xs:\n  ys.append(x)", "for k in d:\n  e[k] = d[k]"]:
             self.assertEqual(faults_of_loops(ast.parse(rows)), [], rows)
 
+    def test_names_that_mean_one_thing(self):
+        methods, attributes = set(), set()
+        for name, tree in self.trees():
+            top = {node.name for node in tree.body if isinstance(node, (ast.FunctionDef, ast.ClassDef))}
+            top |= {alias.name for node in tree.body if isinstance(node, ast.ImportFrom) for alias in node.names}
+            for node in ast.walk(tree):
+                if isinstance(node, ast.ClassDef):
+                    methods |= {row.name for row in node.body if isinstance(row, ast.FunctionDef)}
+                elif isinstance(node, ast.Attribute) and isinstance(node.ctx, ast.Store):
+                    attributes.add(node.attr)
+                elif isinstance(node, ast.FunctionDef):
+                    self.assertEqual(top & {inner.arg for inner in ast.walk(node) if isinstance(inner, ast.arg)}, set(), name)
+                    self.assertEqual(top & {inner.id for inner in ast.walk(node) if isinstance(inner, ast.Name)
+                                            and isinstance(inner.ctx, ast.Store)}, set(), name)
+        # A method or a property and an attribute of one name are allowed at times (L18), but never needed here.
+        self.assertEqual(methods & attributes, set())
+
     def test_words_and_builtins(self):
         for name, tree in self.trees():
             self.assertIsNone(NO_WORDS.search(ast.unparse(without_docstrings(tree))), name)

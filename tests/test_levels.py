@@ -1,5 +1,6 @@
 """Points 39 to 49, and 4 to 8 as far as they speak of plainlevels.py and levels.py."""
 
+import copy
 import unittest
 
 from keptjoined.errors import KeptError
@@ -8,32 +9,12 @@ from keptjoined.plainlevels import PlainLevels
 from keptjoined.shapes import height_bound
 from keptjoined.webs import Web
 from tests.helpers import NO_NAMES, KeptTest, many_houses, many_lines, rows_of, web_of, all_ways
-from tests.references import NO_LEVELS, HandLevels, do, least_height, merged_parts, random_deeds
+from tests.references import (
+    NO_LEVELS, REFUSED, REFUSED_WITH_FORESTS, SMALL_LINES, HandLevels, do, least_height, merged_parts, random_deeds)
 
 BOTH = [PlainLevels, Levels]
 LETTERS = list("abcdefghijklmnop")
 KEYS = ["cuts", "found", "joined", "parted", "puts", "rises", "splices", "takes"]
-
-# Calls that are refused in the small levels, each with its error: (method, arguments, code, value).
-REFUSED = [
-    ("put", ("N", "A", "B"), "BadName", "N"), ("put", ("n", "A", "B"), "BadName", "A"),
-    ("put", ("n", "z", "B"), "BadName", "B"), ("put", ("p", "a", ""), "BadName", ""),
-    ("put", ("n", "z", "y"), "NoHouse", "z"), ("put", ("n", "a", "z"), "NoHouse", "z"),
-    ("put", ("p", "z", "z"), "NoHouse", "z"), ("put", ("n", "p", "a"), "NoHouse", "p"),
-    ("put", ("n", "a", "a"), "SelfLine", "n"), ("put", ("p", "a", "a"), "SelfLine", "p"),
-    ("put", ("p", "a", "b"), "Taken", "p"), ("put", ("s", "c", "d"), "Taken", "s"), ("put", ("p", "e", "a"), "Taken", "p"),
-    ("take", ("P",), "BadName", "P"), ("take", ("n",), "NoLine", "n"), ("take", ("a",), "NoLine", "a"),
-    ("level_of", ("P",), "BadName", "P"), ("level_of", ("n",), "NoLine", "n"), ("level_of", ("a",), "NoLine", "a"),
-    ("piece_of", (-1, "A"), "BadNumber", -1), ("piece_of", (3, "z"), "BadNumber", 3), ("piece_of", (0, "A"), "BadName", "A"),
-    ("piece_of", (2, "A"), "BadName", "A"), ("piece_of", (2, "z"), "NoHouse", "z"), ("piece_of", (0, "p"), "NoHouse", "p"),
-    ("piece_of", ("a", 0), "BadNumber", "a"), ("pieces", (3,), "BadNumber", 3), ("pieces", (-1,), "BadNumber", -1),
-]
-REFUSED_BY_LEVELS = [
-    ("way", ("A", "B"), "BadName", "A"), ("way", ("z", "B"), "BadName", "B"), ("way", ("y", "z"), "NoHouse", "y"),
-    ("way", ("a", "z"), "NoHouse", "z"), ("way", ("z", "z"), "NoHouse", "z"),
-    ("tours", (3,), "BadNumber", 3), ("tours", (-1,), "BadNumber", -1),
-    ("heights", (3,), "BadNumber", 3), ("heights", (-1,), "BadNumber", -1),
-]
 
 
 def levels_of(kind, houses, lines=""):
@@ -45,7 +26,7 @@ def levels_of(kind, houses, lines=""):
 
 def small_levels(kind):
     """Five houses: q was taken, so that p and s rose and t became a tie."""
-    levels = levels_of(kind, "a b c d e", "p a b, q b c, r c d, s a b, t a d, u c d")
+    levels = levels_of(kind, "a b c d e", SMALL_LINES)
     levels.take("q")
     return levels
 
@@ -59,7 +40,7 @@ def state(levels):
         found += [(levels.tours(level), levels.heights(level)) for level in range(levels.top + 1)]
         found += [levels.counts(), levels.web().houses, levels.web().lines]
         found += [levels.way(a, b) for a in levels.houses for b in levels.houses]
-    return found
+    return copy.deepcopy(found)
 
 
 class LevelsTest(KeptTest):
@@ -136,17 +117,7 @@ class SmallTest(LevelsTest):
 
     def test_the_constructor(self):
         for kind in BOTH:
-            houses = ["c", "a", "b"]
-            levels = kind(houses)
-            houses.append("d")
-            self.assertExactly((levels.houses, houses), (["a", "b", "c"], ["c", "a", "b", "d"]))
-            self.assertExactly(kind(("b", "a")).houses, ["a", "b"])
-            for word in NO_NAMES:
-                self.assertRefused("BadName", [word], kind, ["a", word, "a"])
-            self.assertRefused("Taken", ["a"], kind, ["b", "a", "a", "A"])
-            houses = many_houses(32)
-            self.assertRefused("TooMany", [32], kind, houses + ["x", "X"])
-            self.assertRefused("Taken", ["h00"], kind, houses + ["h00"])
+            self.check_constructor(kind)
 
     def test_the_examples_of_the_document(self):
         for kind in BOTH:
@@ -222,7 +193,7 @@ class RefusedTest(LevelsTest):
         for kind in BOTH:
             levels = small_levels(kind)
             before = state(levels)
-            for method, given, code, value in REFUSED + (REFUSED_BY_LEVELS if kind == Levels else []):
+            for method, given, code, value in REFUSED + (REFUSED_WITH_FORESTS if kind == Levels else []):
                 self.assertRefused(code, [value], getattr(levels, method), *given)
                 self.assertExactly(state(levels), before)
 

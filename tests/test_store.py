@@ -1,35 +1,24 @@
 """Points 50 and 51, and 4 to 8 as far as they speak of stores."""
 
+import copy
 import unittest
 
 from keptjoined.errors import KeptError
 from keptjoined.levels import Levels
 from keptjoined.store import Store
 from keptjoined.webs import Web
-from tests.helpers import NO_NAMES, KeptTest, all_ways, many_houses, many_lines, parts_by_hand, rows_of
-from tests.references import NO_LEVELS, do, random_deeds
+from tests.helpers import NO_NAMES, Alike, KeptTest, Unlike, all_ways, many_houses, many_lines, parts_by_hand, rows_of
+from tests.references import NO_LEVELS, REFUSED, REFUSED_WITH_FORESTS, SMALL_LINES, do, random_deeds
 
 LETTERS = list("abcdefghij")
 
-# Calls that are refused in the small store, each with its error: (method, arguments, code, value).
-REFUSED = [
-    ("put", ("N", "A", "B"), "BadName", "N"), ("put", ("n", "A", "B"), "BadName", "A"),
-    ("put", ("n", "z", "B"), "BadName", "B"), ("put", ("p", "a", ""), "BadName", ""),
-    ("put", ("n", "z", "y"), "NoHouse", "z"), ("put", ("n", "a", "z"), "NoHouse", "z"),
-    ("put", ("p", "z", "z"), "NoHouse", "z"), ("put", ("n", "p", "a"), "NoHouse", "p"),
-    ("put", ("n", "a", "a"), "SelfLine", "n"), ("put", ("p", "a", "a"), "SelfLine", "p"),
-    ("put", ("p", "a", "b"), "Taken", "p"), ("put", ("s", "c", "d"), "Taken", "s"), ("put", ("p", "e", "a"), "Taken", "p"),
-    ("take", ("P",), "BadName", "P"), ("take", ("n",), "NoLine", "n"), ("take", ("a",), "NoLine", "a"),
-    ("joined", ("A", "B"), "BadName", "A"), ("joined", ("z", "B"), "BadName", "B"), ("joined", ("y", "z"), "NoHouse", "y"),
-    ("joined", ("a", "z"), "NoHouse", "z"), ("joined", ("z", "z"), "NoHouse", "z"),
-    ("way", ("A", "B"), "BadName", "A"), ("way", ("z", "B"), "BadName", "B"), ("way", ("y", "z"), "NoHouse", "y"),
-    ("way", ("a", "z"), "NoHouse", "z"), ("way", ("z", "z"), "NoHouse", "z"),
-    ("part_of", ("A",), "BadName", "A"), ("part_of", ("p",), "NoHouse", "p"), ("size_of", ("A",), "BadName", "A"),
-    ("size_of", ("p",), "NoHouse", "p"), ("part_name", ("A",), "BadName", "A"), ("part_name", ("p",), "NoHouse", "p"),
-    ("level_of", ("P",), "BadName", "P"), ("level_of", ("n",), "NoLine", "n"), ("level_of", ("a",), "NoLine", "a"),
-    ("piece_of", (-1, "A"), "BadNumber", -1), ("piece_of", (3, "z"), "BadNumber", 3), ("piece_of", (2, "A"), "BadName", "A"),
-    ("piece_of", (2, "z"), "NoHouse", "z"), ("piece_of", ("a", 0), "BadNumber", "a"), ("pieces", (3,), "BadNumber", 3),
-    ("tours", (3,), "BadNumber", 3), ("heights", (-1,), "BadNumber", -1),
+# Calls that the small store refuses beside those that levels refuse: (method, arguments, code, value).
+REFUSED_BY_STORES = [
+    ("joined", ("A", "B"), "BadName", "A"), ("joined", ("z", "B"), "BadName", "B"),
+    ("joined", ("y", "z"), "NoHouse", "y"), ("joined", ("a", "z"), "NoHouse", "z"),
+    ("joined", ("z", "z"), "NoHouse", "z"), ("part_of", ("A",), "BadName", "A"), ("part_of", ("p",), "NoHouse", "p"),
+    ("size_of", ("A",), "BadName", "A"), ("size_of", ("p",), "NoHouse", "p"), ("part_name", ("A",), "BadName", "A"),
+    ("part_name", ("p",), "NoHouse", "p"),
 ]
 
 
@@ -42,7 +31,7 @@ def store_of(houses, lines=""):
 
 def small_store():
     """Two parts, a - b - c - d and e; q was taken, p and s have risen."""
-    store = store_of("a b c d e", "p a b, q b c, r c d, s a b, t a d, u c d")
+    store = store_of("a b c d e", SMALL_LINES)
     store.take("q")
     return store
 
@@ -50,12 +39,13 @@ def small_store():
 def state(store):
     """All that can be seen of a store."""
     houses, levels = store.houses, range(store.top + 1)
-    return [houses, store.lines, store.top, len(store), store.parts(), store.part_count(), store.ties(), store.spares(),
-            store.trace(), store.table(), store.counts(), store.web().houses, store.web().lines,
-            [(store.pieces(level), store.tours(level), store.heights(level)) for level in levels],
-            [[store.piece_of(level, house) for house in houses] for level in levels],
-            [(store.part_of(house), store.size_of(house), store.part_name(house)) for house in houses],
-            [(store.joined(a, b), store.way(a, b)) for a in houses for b in houses]]
+    return copy.deepcopy([
+        houses, store.lines, store.top, len(store), store.parts(), store.part_count(), store.ties(), store.spares(),
+        store.trace(), store.table(), store.counts(), store.web().houses, store.web().lines,
+        [(store.pieces(level), store.tours(level), store.heights(level)) for level in levels],
+        [[store.piece_of(level, house) for house in houses] for level in levels],
+        [(store.part_of(house), store.size_of(house), store.part_name(house)) for house in houses],
+        [(store.joined(a, b), store.way(a, b)) for a in houses for b in houses]])
 
 
 class StoreTest(KeptTest):
@@ -107,17 +97,7 @@ class SmallTest(StoreTest):
         self.assertRefused("SelfLine", ["p"], store.put, "p", "a", "a")
 
     def test_the_constructor(self):
-        houses = ["c", "a", "b"]
-        store = Store(houses)
-        houses.append("d")
-        self.assertExactly((store.houses, houses), (["a", "b", "c"], ["c", "a", "b", "d"]))
-        self.assertExactly(Store(("b", "a")).houses, ["a", "b"])
-        for word in NO_NAMES:
-            self.assertRefused("BadName", [word], Store, ["a", word, "a"])
-        self.assertRefused("Taken", ["a"], Store, ["b", "a", "a", "A"])
-        houses = many_houses(32)
-        self.assertRefused("TooMany", [32], Store, houses + ["x", "X"])
-        self.assertRefused("Taken", ["h00"], Store, houses + ["h00"])
+        self.check_constructor(Store)
 
     def test_the_example_of_the_document(self):
         store = Store(["a", "b", "c"])
@@ -183,7 +163,7 @@ class SmallTest(StoreTest):
         self.assertExactly(len(store), 5)
         for line in "prstu":
             self.assertIs(line in store, True)
-        for word in NO_NAMES + ["q", "a", "e", ("p",), ["p"], ("p", "a", "b"), "p r"]:
+        for word in NO_NAMES + ["q", "a", "e", ("p",), ["p"], ("p", "a", "b"), "p r", Alike("p"), Unlike()]:
             self.assertIs(word in store, False)
 
 
@@ -191,7 +171,7 @@ class RefusedTest(StoreTest):
     def test_each_refusal(self):
         store = small_store()
         before = state(store)
-        for method, given, code, value in REFUSED:
+        for method, given, code, value in REFUSED + REFUSED_WITH_FORESTS + REFUSED_BY_STORES:
             self.assertRefused(code, [value], getattr(store, method), *given)
             self.assertExactly(state(store), before)
 

@@ -3,7 +3,8 @@
 import unittest
 
 from keptjoined.webs import Web
-from tests.helpers import NO_NAMES, KeptTest, full_web, many_houses, many_lines, random_webs, web_of
+from tests.helpers import (
+    NO_NAMES, Alike, KeptTest, Unlike, full_web, many_houses, many_lines, random_webs, web_of)
 
 
 def state(web):
@@ -195,7 +196,7 @@ class ComparedTest(KeptTest):
             self.assertIs(line in web, True)
             self.assertIs(line not in web, False)
         for value in ["a", "c", "m", "L", "l ", "", ("l", "a", "b"), ["l"], ("l",), b"l", object(), Web(), web, {"l"},
-                      {"l": 1}, 1.5] + NO_NAMES:
+                      {"l": 1}, 1.5, Alike("l"), Unlike()] + NO_NAMES:
             self.assertIs(value in web, False, repr(value))
             self.assertIs(value in Web(), False, repr(value))
 
