@@ -177,3 +177,15 @@ def yard_state(yard):
              yard.least_tie(row), yard.least_spare(row)) for row in yard.row_numbers()]
     held = [(yard.row_of(one[0]), yard.place_of(one[0]), one[0] in yard) for row in rows for one in row[1]]
     return copy.deepcopy((rows, held, yard.cuts, yard.splices, len(yard)))
+
+
+def store_state(store):
+    """All that can be seen of a store."""
+    houses, levels = store.houses, range(store.top + 1)
+    return copy.deepcopy([
+        houses, store.lines, store.top, len(store), store.parts(), store.part_count(), store.ties(), store.spares(),
+        store.trace(), store.table(), store.counts(), store.web().houses, store.web().lines,
+        [(store.pieces(level), store.tours(level), store.heights(level)) for level in levels],
+        [[store.piece_of(level, house) for house in houses] for level in levels],
+        [(store.part_of(house), store.size_of(house), store.part_name(house)) for house in houses],
+        [(store.joined(a, b), store.way(a, b)) for a in houses for b in houses]])

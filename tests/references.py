@@ -2,6 +2,7 @@
 
 import random
 
+from keptjoined.names import is_name
 from keptjoined.plaintours import linked, parted, tour_houses, tour_lines
 
 # What a level must not be where the greatest level is 2; some equal 0 or 1, but are no integers.
@@ -53,6 +54,58 @@ def random_deeds(seed, houses, names, count):
 def do(levels, deed):
     """Do a deed on levels or on a store; returns what it returns."""
     return levels.put(*deed[1:]) if deed[0] == "put" else levels.take(deed[1])
+
+
+def deed_fault(houses, lines, place, deed):
+    """What is wrong with a deed behind so many others, (code, value), by points 5, 68 and 69; the lines stand."""
+    if type(deed) not in (tuple, list) or not deed or type(deed[0]) is not str:
+        return "BadDeed", place
+    if (deed[0], len(deed)) != ("put", 4) and (deed[0], len(deed)) != ("take", 2):
+        return "BadDeed", place
+    names = {row[0] for row in lines}
+    for word in deed[1:]:
+        if not is_name(word):
+            return "BadName", word
+    for word in deed[2:]:
+        if word not in houses:
+            return "NoHouse", word
+    if len(deed) == 4 and deed[2] == deed[3]:
+        return "SelfLine", deed[1]
+    if len(deed) == 4 and deed[1] in names:
+        return "Taken", deed[1]
+    if len(deed) == 2 and deed[1] not in names:
+        return "NoLine", deed[1]
+    if len(deed) == 4 and len(lines) >= 96:
+        return "TooMany", 96
+    return ("TooMany", 240) if place >= 240 else None
+
+
+def told(deed):
+    """A deed as it is returned."""
+    return ("put", deed[1], min(deed[2:]), max(deed[2:])) if len(deed) == 4 else ("take", deed[1])
+
+
+def lines_after(lines, deed):
+    """The lines that stand after a deed that can be done, ascending."""
+    if len(deed) == 4:
+        return sorted([*lines, told(deed)[1:]])
+    return [row for row in lines if row[0] != deed[1]]
+
+
+def moments(deeds):
+    """The lines that stand at each moment."""
+    found = [[]]
+    for deed in deeds:
+        found.append(lines_after(found[-1], deed))
+    return found
+
+
+def undoing(deeds):
+    """The inverses of all deeds, the last one first."""
+    found = []
+    for lines, deed in zip(moments(deeds), deeds):
+        found += [("take", deed[1])] if len(deed) == 4 else [("put", *row) for row in lines if row[0] == deed[1]]
+    return found[::-1]
 
 
 def merged_parts(houses, lines):

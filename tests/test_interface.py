@@ -15,6 +15,10 @@ FUNCTIONS = {
     "certificates": "answer is_answer parts_certificate is_parts_certificate shortest_certificate is_shortest_certificate",
     "bridges": "find_bridges store_bridges blocks shrunk bridge_certificate is_bridge_certificate two_ways is_two_ways"
                " least_joins is_joins",
+    "weights": "plain_lightest is_lightest",
+    "journals": "replay first_bad lifetimes joined_spans ledger final_levels web_difference",
+    "log": "record_sum write_log mend compact_log recover record_count new_disk apply_write crash_after disk_log"
+           " deed_writes compact_writes",
 }
 
 CLASSES = {
@@ -27,6 +31,12 @@ CLASSES = {
     ("levels", "Levels"): "houses lines top put take level_of table piece_of pieces web way tours heights counts",
     ("store", "Store"): "houses lines top __len__ __contains__ put take web joined way part_of size_of part_name parts"
                         " part_count ties spares trace level_of table piece_of pieces tours heights counts",
+    ("weights", "WeightForest"): "houses lines __len__ __contains__ put kept outs weight_of weights weight_sum web heaviest"
+                                 " ring_of",
+    ("journals", "Journal"): "houses deeds __eq__ __len__ __iter__ web_at prefix with_deed settled inverse from_web",
+    ("history", "History"): "MOST_VERSIONS put take undo redo undone journal versions name_version version back_to compare"
+                            " twin",
+    ("log", "LoggedStore"): "put take log_text compact after_crash",
 }
 
 

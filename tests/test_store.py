@@ -1,13 +1,13 @@
 """Points 50 and 51, and 4 to 8 as far as they speak of stores."""
 
-import copy
 import unittest
 
 from keptjoined.errors import KeptError
 from keptjoined.levels import Levels
 from keptjoined.store import Store
 from keptjoined.webs import Web
-from tests.helpers import NO_NAMES, Alike, KeptTest, Unlike, all_ways, many_houses, many_lines, parts_by_hand, rows_of
+from tests.helpers import (NO_NAMES, Alike, KeptTest, Unlike, all_ways, many_houses, many_lines, parts_by_hand, rows_of,
+                           store_state)
 from tests.references import NO_LEVELS, REFUSED, REFUSED_WITH_FORESTS, SMALL_LINES, do, random_deeds
 
 LETTERS = list("abcdefghij")
@@ -34,18 +34,6 @@ def small_store():
     store = store_of("a b c d e", SMALL_LINES)
     store.take("q")
     return store
-
-
-def state(store):
-    """All that can be seen of a store."""
-    houses, levels = store.houses, range(store.top + 1)
-    return copy.deepcopy([
-        houses, store.lines, store.top, len(store), store.parts(), store.part_count(), store.ties(), store.spares(),
-        store.trace(), store.table(), store.counts(), store.web().houses, store.web().lines,
-        [(store.pieces(level), store.tours(level), store.heights(level)) for level in levels],
-        [[store.piece_of(level, house) for house in houses] for level in levels],
-        [(store.part_of(house), store.size_of(house), store.part_name(house)) for house in houses],
-        [(store.joined(a, b), store.way(a, b)) for a in houses for b in houses]])
 
 
 class StoreTest(KeptTest):
@@ -170,14 +158,14 @@ class SmallTest(StoreTest):
 class RefusedTest(StoreTest):
     def test_each_refusal(self):
         store = small_store()
-        before = state(store)
+        before = store_state(store)
         for method, given, code, value in REFUSED + REFUSED_WITH_FORESTS + REFUSED_BY_STORES:
             self.assertRefused(code, [value], getattr(store, method), *given)
-            self.assertExactly(state(store), before)
+            self.assertExactly(store_state(store), before)
 
     def test_no_names(self):
         store = small_store()
-        before = state(store)
+        before = store_state(store)
         for word in NO_NAMES:
             for call, given in [(store.put, (word, "a", "e")), (store.put, ("n", word, "e")), (store.put, ("n", "a", word)),
                                 (store.take, (word,)), (store.level_of, (word,)), (store.piece_of, (1, word)),
@@ -185,7 +173,7 @@ class RefusedTest(StoreTest):
                                 (store.joined, ("a", word)), (store.part_of, (word,)), (store.size_of, (word,)),
                                 (store.part_name, (word,))]:
                 self.assertRefused("BadName", [word], call, *given)
-        self.assertExactly(state(store), before)
+        self.assertExactly(store_state(store), before)
 
     def test_no_levels(self):
         store = small_store()
@@ -199,16 +187,16 @@ class RefusedTest(StoreTest):
         store = Store(houses)
         for row in many_lines(96, houses):
             store.put(*row)
-        before = state(store)
+        before = store_state(store)
         self.assertRefused("TooMany", [96], store.put, "n", "h00", "h01")
         self.assertRefused("Taken", ["l00"], store.put, "l00", "h00", "h01")
-        self.assertExactly(state(store), before)
+        self.assertExactly(store_state(store), before)
         store.take("l95")
         self.assertIs(store.put("n", "h00", "h01"), None)
 
     def test_what_is_returned_may_be_changed(self):
         store = small_store()
-        before = state(store)
+        before = store_state(store)
         found = [store.houses, store.lines, store.parts(), store.parts()[0], store.part_of("a"), store.ties(), store.spares(),
                  store.trace(), store.table(), store.pieces(0), store.pieces(0)[0], store.piece_of(0, "a"), store.tours(0),
                  store.tours(0)[0], store.heights(0), store.way("b", "d"), store.way("a", "a"), store.web().lines]
@@ -217,7 +205,7 @@ class RefusedTest(StoreTest):
             one[:1] = []
         store.counts().clear()
         store.counts()["puts"] = 99
-        self.assertExactly(state(store), before)
+        self.assertExactly(store_state(store), before)
         for one in store.put("n", "a", "e"):
             one.clear()
         self.assertExactly(store.parts(), [["a", "b", "c", "d", "e"]])
