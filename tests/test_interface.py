@@ -19,6 +19,11 @@ FUNCTIONS = {
     "journals": "replay first_bad lifetimes joined_spans ledger final_levels web_difference",
     "log": "record_sum write_log mend compact_log recover record_count new_disk apply_write crash_after disk_log"
            " deed_writes compact_writes",
+    "plainstore": "ask ask_all disagreement",
+    "combining": "side_by_side renamed let_in weave",
+    "worst": "rises_of worst_row is_worst",
+    "script": "read_command write_command write_book read_book",
+    "book": "audit compare_books",
 }
 
 CLASSES = {
@@ -37,6 +42,9 @@ CLASSES = {
     ("history", "History"): "MOST_VERSIONS put take undo redo undone journal versions name_version version back_to compare"
                             " twin",
     ("log", "LoggedStore"): "put take log_text compact after_crash",
+    ("plainstore", "PlainStore"): "houses lines __len__ __contains__ put take web joined way part_of size_of part_name parts"
+                                  " part_count",
+    ("book", "Book"): "MOST_ENTRIES MOST_STORES __call__ run_all entries stores __len__ __iter__ twin",
 }
 
 

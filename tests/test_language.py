@@ -14,6 +14,16 @@ BUILTINS = set("len range enumerate zip min max sum abs sorted reversed int str 
                " ZeroDivisionError ArithmeticError OverflowError RuntimeError NotImplementedError AttributeError"
                " StopIteration NotImplemented".split())
 NO_NAMES_HERE = set("register mro elements open input law version_info with_traceback add_note".split())
+# Names of variables, functions, classes, imports, parameters, errors and methods that L17 bars.
+NO_BOUND = set("attrgetter breakpoint builtins compile copyright credits delattr dir eval exec exit gc getattr globals hasattr"
+               " help id importlib license locals methodcaller os quit setattr super type vars sys __name__".split())
+# What no name begins with, or no name is (L12).
+NO_STARTS = re.compile(r"_wall|_pe_|_dcw_|_enum_|_cm_|_twin_re_|_lay_|_law_|_stub_|_sre|_WallAttr"
+                       r"|_(cold|tuplegetter|outside|record|written_out|member_names)[0-9_]*$|__")
+LISTED = set("append clear copy count endswith extend find get index insert isalnum isalpha isdigit islower isspace isupper"
+             " items join keys ljust lower lstrip partition pop remove replace reverse rfind rjust rpartition rsplit rstrip"
+             " setdefault split splitlines startswith strip update upper values zfill bit_length".split())
+ALL_METHODS = {name for value in ("", 0, [], {}, set(), b"", ()) for name in dir(value) if not name.startswith("__")}
 NO_WORDS = re.compile(r"\b(typing|typing_extensions|enum|Enum|IntEnum|StrEnum|Flag|IntFlag|Generic|Protocol|ABC|ABCMeta"
                       r"|namedtuple|NamedTuple|TypedDict|TYPE_CHECKING|abstractmethod)\b"
                       r"|dataclass|overload|contextmanager")
@@ -178,6 +188,45 @@ class LanguageTest(unittest.TestCase):
             self.assertEqual(bound & set(dir(builtins)), set(), name)
             self.assertEqual(used - bound - BUILTINS, set(), name)
             self.assertEqual((bound | attributes) & NO_NAMES_HERE, set(), name)
+
+
+    def test_names_that_are_barred(self):
+        for name, tree in self.trees():
+            for node in ast.walk(tree):
+                found = []
+                if isinstance(node, ast.Name):
+                    found = [node.id]
+                elif isinstance(node, (ast.FunctionDef, ast.ClassDef, ast.alias, ast.ExceptHandler)):
+                    found = [node.name]
+                elif isinstance(node, ast.arg):
+                    found = [node.arg]
+                # `super` may be read.
+                if not isinstance(node, ast.Name) or not isinstance(node.ctx, ast.Load):
+                    self.assertEqual(NO_BOUND & set(found), set(), name)
+                if isinstance(node, ast.Attribute):
+                    found = [node.attr]
+                for word in found:
+                    if word is not None and not re.fullmatch("__[a-z]+__", word):
+                        self.assertIsNone(NO_STARTS.match(word), f"{name}: {word}")
+
+    def test_methods_of_builtin_values(self):
+        for name, tree in self.trees():
+            for node in ast.walk(tree):
+                if isinstance(node, ast.ClassDef):
+                    own = {row.name for row in node.body if isinstance(row, ast.FunctionDef)}
+                    self.assertEqual(own & ALL_METHODS, set(), name)
+                elif isinstance(node, ast.Attribute) and isinstance(node.ctx, ast.Store):
+                    self.assertFalse(node.attr in ALL_METHODS, f"{name}: {node.attr}")
+                elif isinstance(node, ast.Call) and isinstance(node.func, ast.Attribute):
+                    self.assertFalse(node.func.attr in ALL_METHODS - LISTED, f"{name}: {node.func.attr}")
+                elif isinstance(node, ast.Constant) and isinstance(node.value, str):
+                    self.assertFalse(node.value.endswith(("._", ".__")), name)
+
+    def test_no_import_is_idle(self):
+        for name, tree in self.trees():
+            used = {node.id for node in ast.walk(tree) if isinstance(node, ast.Name)}
+            wanted = {alias.name for node in tree.body if isinstance(node, ast.ImportFrom) for alias in node.names}
+            self.assertEqual(wanted - used, set(), name)
 
 
 if __name__ == "__main__":

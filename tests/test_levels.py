@@ -8,7 +8,7 @@ from keptjoined.levels import Levels
 from keptjoined.plainlevels import PlainLevels
 from keptjoined.shapes import height_bound
 from keptjoined.webs import Web
-from tests.helpers import NO_NAMES, KeptTest, many_houses, many_lines, rows_of, web_of, all_ways
+from tests.helpers import NO_NAMES, KeptTest, many_houses, many_lines, rows_of, all_ways
 from tests.references import (
     NO_LEVELS, REFUSED, REFUSED_WITH_FORESTS, SMALL_LINES, HandLevels, do, least_height, merged_parts, random_deeds)
 
