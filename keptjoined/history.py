@@ -20,15 +20,13 @@ class History(Store):
     def put(self, line, a, b):
         """Put a new line in; returns None or the two parts that it joins."""
         # The lines of the journal are those that stand, so it refuses what the store does, and then a 241st deed.
-        journal = self._journal.with_deed(("put", line, a, b))
-        self._journal = journal
+        self._journal = self._journal.with_deed(("put", line, a, b))
         self._undone = []
         return super().put(line, a, b)
 
     def take(self, line):
         """Take a line out; returns None or the two parts into which its part falls."""
-        journal = self._journal.with_deed(("take", line))
-        self._journal = journal
+        self._journal = self._journal.with_deed(("take", line))
         self._undone = []
         return super().take(line)
 

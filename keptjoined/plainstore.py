@@ -115,7 +115,7 @@ def disagreement(first, second, questions):
         one = ask(first, question)
         other = ask(second, question)
         if question[0] == "way":
-            agree = are_ways(first, second, question, one, other)
+            agree = ways_agree(first, second, question, one, other)
         else:
             agree = one == other
         if not agree:
@@ -123,7 +123,7 @@ def disagreement(first, second, questions):
     return None
 
 
-def are_ways(first, second, question, one, other):
+def ways_agree(first, second, question, one, other):
     """True if both answers are None, or each is a way in the web of its own store."""
     if one is None or other is None:
         return one is None and other is None
